@@ -94,6 +94,21 @@ def wrong_numbers(many):
     return numbers + [many, many + 1, -1, -many, "0", b"0", (), (0,), [0], ((0,),), slice(0, 1), slice(None)]
 
 
+# Values of every kind to be judged, none of which is a row, a cover, a filling or a short but ().
+DEEP = ()
+for _ in range(49):
+    DEEP = (DEEP,)
+THINGS = STRANGE + WRONG_LOTS + [
+    (), DEEP, (DEEP,) * 3, [()], ((), ()), ([],), ({},), (None,), (True,), (False,), (0.5,), ("",), (b"",),
+    (0,) * 20000,
+    ((0, 1),), ((0, 0, 1),), [(0, 0, 1)], ((0, 0, True),), ([0, 0, 1],), (0, 0, 1), ("0", "0", "1"), slice(0, 1),
+    "sum", ("sum",), ("free",), ("sum", 0), ("free", 0), ("signed", (), ()), ("short", (0,)), ("once", 1),
+]
+
+# Of these each stands for its kind where every place of a nested value is tried.
+KINDS = [None, True, False, -1, 0, 1, GREAT, "", "ann", b"ann", (), [], {}, {"ann"}, (None,), ALONE, BOOK]
+
+
 class Case(unittest.TestCase):
     """A test case that tells which error is raised, and with which field."""
 

@@ -5,8 +5,12 @@ import unittest
 from samples import (ALONE, BOOK, BOTH, FOLK, STRANGE, WRONG_LENT, WRONG_PEOPLE, WRONG_SLOTS, WRONG_SUMS, Case)
 from whomaysign.books import Book
 from whomaysign.clauses import Clause
-from whomaysign.errors import SignError
+from whomaysign.covers import cover, is_cover, least_cost, spread
+from whomaysign.errors import BadPaper, BadWish, SignError
+from whomaysign.hands import filling, fillers, is_filling, is_short, short, signs
+from whomaysign.lots import bars, fulfils, least_lots, levels, spared
 from whomaysign.people import all_lots, is_lot, need_people
+from whomaysign.reach import at_once, check, gathers, keeps, makes, paper
 
 SIGNS = [
     operator.add, operator.sub, operator.mul, operator.floordiv, operator.truediv, operator.mod, operator.pow,
@@ -15,6 +19,14 @@ SIGNS = [
     operator.iadd, operator.isub, operator.imul, operator.ior, operator.iand, operator.ixor,
 ]
 ALL_OF_ONE = [operator.neg, operator.pos, operator.invert, abs, int, operator.index]
+
+
+def places(thing, other):
+    """A thing with another value in each of its places, at any depth."""
+    yield other
+    for at, item in enumerate(thing if isinstance(thing, tuple) else ()):
+        for part in places(item, other):
+            yield thing[:at] + (part,) + thing[at + 1:]
 
 
 class Signs(Case):
@@ -70,6 +82,42 @@ class Signs(Case):
             del BOOK[0]
 
 
+class Sullen:
+    """A value that can't be compared with anything."""
+
+    __hash__ = None
+
+    def __eq__(self, other):
+        raise AssertionError("compared")
+
+    __ne__ = __lt__ = __gt__ = __le__ = __ge__ = __eq__
+
+
+class AnyValue(Case):
+
+    def test_values_that_cannot_be_compared(self):
+        sullen = Sullen()
+        self.assertIs(is_lot(FOLK, sullen), False)
+        for right, judge in [
+                (FOLK, lambda thing: is_lot(FOLK, thing)),
+                (("ann", "bob"), lambda thing: is_filling(BOOK, FOLK, 1, thing)),
+                ((0, 1), lambda thing: is_short(BOOK, ("ann",), 1, thing)),
+                (((0, 3),), lambda thing: is_cover(ALONE, 3, thing)),
+                (((0, 1, 9), (1, 0, 500)), lambda thing: keeps(BOOK, thing)),
+                (((0, 1, 9), (1, 0, 500)), lambda thing: makes(BOOK, FOLK, thing))]:
+            self.assertIs(judge(right), True)
+            for thing in places(right, sullen):
+                self.assertIs(judge(thing), False)
+        for lot in (("cat",), FOLK):
+            for thing in places(paper(BOOK, lot, 3), sullen):
+                with self.assertRaises(BadPaper):
+                    check(BOOK, lot, 3, thing)
+        for right in (("once", 1), ("days", 1, 1)):
+            for wish in places(right, sullen):
+                with self.assertRaises(BadWish):
+                    fulfils(BOOK, FOLK, wish)
+
+
 class NothingChanges(Case):
 
     def test_lists_that_were_passed(self):
@@ -117,6 +165,44 @@ class NothingChanges(Case):
     def test_equal_calls_of_functions(self):
         self.assertEqual(all_lots(FOLK), all_lots(tuple(list(FOLK))))
         self.assertIs(is_lot(FOLK, ("ann",)), is_lot(FOLK, ("ann",)))
+
+    def test_what_is_asked_of_a_book(self):
+        one = Book(FOLK, [ALONE, BOTH], [("bob", "cat")])
+        other = Book(tuple(list(FOLK)), (ALONE.changed("cap", 500), BOTH), [("bob", "cat")])
+        before = copy.deepcopy([vars(one), vars(ALONE), vars(BOTH)])
+        for call in [
+                lambda book: fillers(book, 1), lambda book: signs(book, FOLK, 1), lambda book: filling(book, FOLK, 1),
+                lambda book: short(book, ("ann",), 1), lambda book: is_filling(book, FOLK, 1, ("ann", "bob")),
+                lambda book: is_short(book, ("ann",), 1, (0, 1)), lambda book: least_cost(book[0], 9),
+                lambda book: cover(book[0], 9), lambda book: is_cover(book[0], 3, ((0, 3),)),
+                lambda book: spread(book[0], 9), lambda book: keeps(book, ((0, 0, 5),)),
+                lambda book: makes(book, FOLK, ((0, 0, 5),)), lambda book: at_once(book, ("cat",)),
+                lambda book: gathers(book, ("cat",), 9), lambda book: paper(book, ("cat",), 9),
+                lambda book: paper(book, FOLK, 9), lambda book: check(book, FOLK, 9, paper(book, FOLK, 9)),
+                lambda book: fulfils(book, FOLK, ("once", 9)), lambda book: least_lots(book, ("once", 501)),
+                lambda book: bars(book, ("days", 9, 501)), lambda book: levels(book, 9),
+                lambda book: spared(book, ("once", 501))]:
+            told = call(one)
+            self.assertTrue(told is None or isinstance(told, (tuple, int, str)))
+            self.assertEqual(told, call(one))
+            self.assertEqual(told, call(other))
+        self.assertEqual([vars(one), vars(ALONE), vars(BOTH)], before)
+
+    def test_lists_that_are_judged(self):
+        for thing in [
+                [], ["ann", "bob"], [0, 1], ["sum", 0, [], []], ("sum", 0, [["short", [0]]], []), ([0, 0, 1],),
+                ["free", 1, ["ann", "bob"]], ("free", 1, ["ann", "bob"]), {"sum": [0]}, ({"sum": [0]},)]:
+            before = repr(thing)
+            for call in [
+                    lambda: is_filling(BOOK, FOLK, 1, thing), lambda: is_short(BOOK, ("ann",), 1, thing),
+                    lambda: is_cover(ALONE, 0, thing), lambda: keeps(BOOK, thing), lambda: makes(BOOK, FOLK, thing)]:
+                self.assertIs(call(), False)
+            for call in [
+                    lambda: check(BOOK, FOLK, 1, thing), lambda: fulfils(BOOK, FOLK, thing),
+                    lambda: least_lots(BOOK, thing), lambda: signs(BOOK, thing, 7), lambda: at_once(BOOK, [thing])]:
+                with self.assertRaises(SignError):
+                    call()
+            self.assertEqual(repr(thing), before)
 
 
 if __name__ == "__main__":

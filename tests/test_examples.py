@@ -2,6 +2,10 @@ import unittest
 
 from whomaysign.books import Book
 from whomaysign.clauses import Clause
+from whomaysign.covers import cover, least_cost, spread
+from whomaysign.hands import filling, short, signs
+from whomaysign.lots import bars, least_lots
+from whomaysign.reach import at_once, gathers
 
 
 class Examples(unittest.TestCase):
@@ -19,6 +23,21 @@ class Examples(unittest.TestCase):
         self.assertEqual((book.people, book.clauses, book.lent), (folk, (alone, both), ()))
         self.assertEqual(book.lending('bob', 'cat').lent, (('bob', 'cat'),))
         self.assertEqual(book.lending('bob', 'cat').clauses, (alone, both))
+
+    def test_who_can_move_how_much(self):
+        folk = ('ann', 'bob', 'cat')
+        alone = Clause(folk, (folk,), 500, ((1, 500), (3, 1000)))
+        both = Clause(folk, (('ann', 'bob'), ('ann', 'bob')))
+        book = Book(folk, [alone, both])
+        self.assertEqual((at_once(book, ('cat',)), at_once(book, ('ann', 'bob'))), (500, None))
+        self.assertEqual(gathers(book, ('cat',), 7), 2500)
+        self.assertEqual((cover(alone, 3), sum(spread(alone, 3))), (((0, 3),), 1000))
+        self.assertEqual(least_cost(alone, 3), 1000)
+        self.assertEqual(short(book, ('ann', 'cat'), 1), (0, 1))
+        self.assertIs(filling(book, ('ann', 'cat'), 1), None)
+        self.assertIs(signs(book.lending('bob', 'cat'), ('ann', 'cat'), 1), True)
+        self.assertEqual(least_lots(book, ('once', 501)), (('ann', 'bob'),))
+        self.assertEqual(bars(book, ('once', 501)), (('ann',), ('bob',)))
 
 
 if __name__ == "__main__":

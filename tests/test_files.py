@@ -1,6 +1,7 @@
 """What the language rules ask of every file, as far as it is told without judgement."""
 
 import ast
+import builtins
 import pathlib
 import unittest
 import warnings
@@ -18,6 +19,11 @@ INTERFACE = {
     "clauses": {"Clause": ["__init__", "__eq__", "changed"]},
     "books": {"Book": [
         "__init__", "__len__", "__getitem__", "__eq__", "adding", "without", "lending", "as_one", "leaving"]},
+    "hands": {
+        "fillers": None, "signs": None, "filling": None, "short": None, "is_filling": None, "is_short": None},
+    "covers": {"least_cost": None, "cover": None, "is_cover": None, "spread": None},
+    "reach": {"keeps": None, "makes": None, "at_once": None, "gathers": None, "paper": None, "check": None},
+    "lots": {"fulfils": None, "least_lots": None, "bars": None, "levels": None, "spared": None},
 }
 
 
@@ -72,6 +78,16 @@ class Files(unittest.TestCase):
                         self.assertIn(node.name, DOUBLE, path)
                 if isinstance(node, ast.Constant):
                     self.assertNotIsInstance(node.value, float, path)
+
+    def test_no_name_hides_an_import_or_a_class(self):
+        for path, _, tree in trees():
+            named = {name.name for node in tree.body if isinstance(node, ast.ImportFrom) for name in node.names}
+            named |= {node.name for node in tree.body if isinstance(node, ast.ClassDef)} | set(dir(builtins))
+            for node in ast.walk(tree):
+                if isinstance(node, ast.arg):
+                    self.assertNotIn(node.arg, named, path)
+                if isinstance(node, ast.Name) and isinstance(node.ctx, ast.Store):
+                    self.assertNotIn(node.id, named, path)
 
     def test_no_warnings(self):
         with warnings.catch_warnings():

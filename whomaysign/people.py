@@ -1,7 +1,7 @@
 """People, and lots of them."""
 
-from whomaysign.errors import BadPeople
-from whomaysign.kinds import ascends
+from whomaysign.errors import BadLot, BadPeople
+from whomaysign.kinds import ascends, choices
 
 MOST_PEOPLE = 6
 MOST_LETTERS = 8
@@ -14,6 +14,13 @@ def need_people(thing):
     # Only words are sure to be comparable, so their order is asked last.
     if not all([_is_word(word) for word in thing]) or not ascends(thing):
         raise BadPeople(thing)
+    return thing
+
+
+def need_lot(people, thing):
+    """Itself, if it is a lot of the people."""
+    if not is_lot(people, thing):
+        raise BadLot(thing)
     return thing
 
 
@@ -31,10 +38,7 @@ def is_lot(people, thing):
 
 def all_lots(people):
     """The ascending tuple of all lots of the people."""
-    lots = [()]
-    for person in need_people(people):
-        lots = lots + [lot + (person,) for lot in lots]
-    return tuple(sorted(lots))
+    return tuple(sorted(choices(need_people(people))))
 
 
 def _is_word(thing):
