@@ -3,6 +3,7 @@
 import functools
 import itertools
 import random
+import re
 
 from whomaysign.books import Book
 from whomaysign.clauses import Clause
@@ -115,6 +116,20 @@ def cost_of_sums(sums, days):
     return min((cost(clause, some) for some in every if is_cover(clause, days, some)), default=None)
 
 
+@functools.lru_cache(maxsize=None)
+def costs_of_sums(sums, days):
+    """The least costs of covers of 0 days, of 1 day and so on, None where there is none."""
+    # Windows one behind another hold as many days as windows can; exact[many] is the least cost of just so many.
+    exact = [0] + [None] * (days + 7)
+    for length, most in sums:
+        for many in range(length, days + 8):
+            if exact[many - length] is not None and (exact[many] is None or exact[many - length] + most < exact[many]):
+                exact[many] = exact[many - length] + most
+    # A cover of least cost holds no window's days more than are wanted.
+    held = [[cost for cost in exact[many:many + 7] if cost is not None] for many in range(days + 1)]
+    return tuple(min(costs, default=None) for costs in held)
+
+
 def is_payment(book, thing):
     return (type(thing) is tuple and len(thing) == 3 and whole(thing[0]) and whole(thing[1])
             and thing[1] < len(book.clauses) and whole(thing[2], 1))
@@ -151,6 +166,28 @@ def gathers(book, lot, days, most=most_total):
     """What a lot gathers, with what tells the greatest total of a clause."""
     totals = [most(clause, days) for number, clause in enumerate(book.clauses) if signs(book, lot, number)]
     return None if None in totals else sum(totals)
+
+
+def gathers_each(book, lot, days):
+    """What a lot gathers in 0 days, in 1 day, and so on."""
+    costs = [costs_of_sums(clause.sums, days) for number, clause in enumerate(book.clauses) if signs(book, lot, number)]
+    return [None if None in totals else sum(totals) for totals in zip([0] * (days + 1), *costs)]
+
+
+def parting(one, other, days):
+    """By which lot first, and in what, two books are not alike, as far as up to so many days tell."""
+    bounds = [clause.cap for book in (one, other) for clause in book.clauses if clause.cap is not None]
+    bounds += [most for book in (one, other) for clause in book.clauses for _, most in clause.sums]
+    # Amounts that differ in who pays them have some bound between them.
+    amounts = {1} | {bound + more for bound in bounds for more in (0, 1)}
+    for lot in sorted(all_parts(one.people)):
+        if any(pays_at_once(one, lot, amount) != pays_at_once(other, lot, amount) for amount in amounts):
+            return ("once", lot)
+        both = zip(gathers_each(one, lot, days), gathers_each(other, lot, days))
+        unlike = [day for day, (here, there) in enumerate(both) if here != there]
+        if unlike:
+            return ("days", lot, unlike[0])
+    return None
 
 
 def fulfils(book, lot, wish):
@@ -196,6 +233,81 @@ def check(book, lot, days, thing):
     if not makes(book, lot, row) or any(day >= days for day, _, _ in row):
         return ["row"]
     return "sum" if sum(amount for _, _, amount in row) == number else ["row"]
+
+
+LOT = r"(?:-|[a-z]{1,8}(?:[+][a-z]{1,8})*)"
+NUMBER = r"[1-9][0-9]{0,999}"
+CLAUSE_LINE = re.compile(rf"slots((?: {LOT}){{1,4}}) cap (-|{NUMBER}) sums((?: [1-7]:{NUMBER}){{0,3}})")
+PEOPLE_LINE = re.compile(r"people((?: [a-z]{1,8}){1,6})")
+LENT_LINE = re.compile(r"lent ([a-z]{1,8}) ([a-z]{1,8})")
+
+
+def rises(things):
+    return all(one < other for one, other in zip(things, things[1:]))
+
+
+def read_clause(people, line):
+    """The clause that a line tells of, None if it tells of none."""
+    found = CLAUSE_LINE.fullmatch(line)
+    if not found:
+        return None
+    slots = tuple(() if word == "-" else tuple(word.split("+")) for word in found[1].split())
+    sums = tuple(tuple(int(number) for number in word.split(":")) for word in found[3].split())
+    if not rises([days for days, _ in sums]) or not all(rises(lot) and set(lot) <= set(people) for lot in slots):
+        return None
+    return Clause(people, slots, None if found[2] == "-" else int(found[2]), sums)
+
+
+def read_people(line):
+    found = PEOPLE_LINE.fullmatch(line)
+    return tuple(found[1].split()) if found and rises(found[1].split()) else None
+
+
+def read_lent(people, line):
+    found = LENT_LINE.fullmatch(line)
+    return found.groups() if found and found[1] != found[2] and set(found.groups()) <= set(people) else None
+
+
+def read_book(text):
+    """The book that a text tells of, or the number of the first line that can't stand there."""
+    first, *rest = text.split("\n")
+    people = read_people(first)
+    if people is None:
+        return 1
+    clauses, lent = [], []
+    for number, line in enumerate(rest, 2):
+        clause, pair = read_clause(people, line), read_lent(people, line)
+        if clause is not None and not lent and len(clauses) < 5:
+            clauses.append(clause)
+        elif pair is not None and clauses and rises(lent + [pair]):
+            lent.append(pair)
+        else:
+            return number
+    return Book(people, clauses, lent) if clauses else 2
+
+
+def near_texts(text, signs):
+    """Texts that differ from a text by a sign, a word or a line."""
+    for at in range(len(text) + 1):
+        yield text[:at] + text[at + 1:]
+        yield text[:at] + text[at:at + 1] + text[at:]
+        yield text[:at] + text[at + 1:at + 2] + text[at:at + 1] + text[at + 2:]
+        for sign in signs:
+            yield text[:at] + sign + text[at:]
+            yield text[:at] + sign + text[at + 1:]
+    for between in ("\n", " ", "+", ":"):
+        parts = text.split(between)
+        for at, part in enumerate(parts):
+            yield between.join(parts[:at] + parts[at + 1:])
+            yield between.join(parts[:at] + [part] + parts[at:])
+            yield between.join(parts[:at])
+            yield between.join(parts[at:])
+            for other in range(at):
+                yield between.join(parts[:other] + [part] + parts[other + 1:at] + [parts[other]] + parts[at + 1:])
+        yield between.join(parts[::-1])
+        yield (between + between).join(parts)
+        yield between + text
+        yield text + between
 
 
 def is_one_of(thing, things):

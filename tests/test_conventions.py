@@ -5,12 +5,20 @@ import unittest
 from samples import (ALONE, BOOK, BOTH, FOLK, STRANGE, WRONG_LENT, WRONG_PEOPLE, WRONG_SLOTS, WRONG_SUMS, Case)
 from whomaysign.books import Book
 from whomaysign.clauses import Clause
+from whomaysign.compare import alike, never_needed, parting
 from whomaysign.covers import cover, is_cover, least_cost, spread
-from whomaysign.errors import BadPaper, BadWish, SignError
+from whomaysign.desk import Desk, tried
+from whomaysign.errors import BadPaper, BadRow, BadWish, SignError
 from whomaysign.hands import filling, fillers, is_filling, is_short, short, signs
 from whomaysign.lots import bars, fulfils, least_lots, levels, spared
 from whomaysign.people import all_lots, is_lot, need_people
 from whomaysign.reach import at_once, check, gathers, keeps, makes, paper
+from whomaysign.second import cost_too, signs_too
+from whomaysign.texts import book_text, clause_text, read_book, read_clause
+
+DESK = Desk(BOOK)
+DESK.pay(("cat",), (0, 0, 500))
+OWN = (ALONE, BOOK, DESK)
 
 SIGNS = [
     operator.add, operator.sub, operator.mul, operator.floordiv, operator.truediv, operator.mod, operator.pow,
@@ -32,8 +40,8 @@ def places(thing, other):
 class Signs(Case):
 
     def test_beside_any_value(self):
-        for own in (ALONE, BOOK):
-            for value in STRANGE + [(), (ALONE,), FOLK]:
+        for own in OWN:
+            for value in STRANGE + [(), (ALONE,), FOLK, DESK, [DESK], DESK.row]:
                 for sign in SIGNS:
                     with self.assertRaises(TypeError):
                         sign(own, value)
@@ -43,13 +51,13 @@ class Signs(Case):
                             sign(copy.copy(value) if isinstance(value, (list, dict, set)) else value, own)
 
     def test_alone(self):
-        for own in (ALONE, BOOK):
+        for own in OWN:
             for sign in ALL_OF_ONE:
                 with self.assertRaises(TypeError):
                     sign(own)
 
     def test_no_iterating(self):
-        for own in (ALONE, BOOK):
+        for own in OWN:
             for over in (iter, list, tuple, sorted, sum, enumerate, zip, dict, set, any, max):
                 with self.assertRaises(TypeError):
                     over(own)
@@ -62,8 +70,8 @@ class Signs(Case):
                 _, _ = own
 
     def test_no_in(self):
-        for own in (ALONE, BOOK):
-            for value in STRANGE + [(), ALONE, BOTH, FOLK]:
+        for own in OWN:
+            for value in STRANGE + [(), ALONE, BOTH, FOLK, DESK, (0, 0, 500)]:
                 with self.assertRaises(TypeError):
                     value in own
                 with self.assertRaises(TypeError):
@@ -75,11 +83,22 @@ class Signs(Case):
         with self.assertRaises(TypeError):
             len(ALONE)
 
+    def test_no_items_of_a_desk(self):
+        for at in (0, -1, slice(0, 1), None):
+            with self.assertRaises(TypeError):
+                DESK[at]
+        with self.assertRaises(TypeError):
+            reversed(DESK)
+        with self.assertRaises(TypeError):
+            with DESK:
+                pass
+
     def test_no_items_are_set(self):
-        with self.assertRaises(TypeError):
-            BOOK[0] = BOTH
-        with self.assertRaises(TypeError):
-            del BOOK[0]
+        for own in (BOOK, DESK):
+            with self.assertRaises(TypeError):
+                own[0] = BOTH
+            with self.assertRaises(TypeError):
+                del own[0]
 
 
 class Sullen:
@@ -116,6 +135,27 @@ class AnyValue(Case):
             for wish in places(right, sullen):
                 with self.assertRaises(BadWish):
                     fulfils(BOOK, FOLK, wish)
+
+    def test_values_that_cannot_be_compared_where_one_is_wanted(self):
+        sullen = Sullen()
+        desk = Desk(BOOK)
+        for call in [
+                lambda: signs_too(BOOK, sullen, 0), lambda: signs_too(BOOK, (sullen,), 0),
+                lambda: signs_too(BOOK, FOLK, sullen), lambda: cost_too(ALONE, sullen), lambda: read_book(sullen),
+                lambda: read_clause(FOLK, sullen), lambda: read_clause((sullen,), ""), lambda: desk.left(sullen, 0),
+                lambda: desk.left(FOLK, sullen), lambda: desk.pay((sullen,), (0, 0, 1)), lambda: desk.undo(sullen)]:
+            with self.assertRaises(SignError):
+                call()
+        for payment in places((0, 0, 1), sullen):
+            with self.assertRaises(BadRow):
+                desk.pay(FOLK, payment)
+        self.assertEqual(desk.row, ())
+
+
+def paid_and_told(desk):
+    """Pays something at a desk, and tells all about it."""
+    desk.pay(("cat",), (1, 0, 300))
+    return desk.row, len(desk), desk.day(), desk.left(("cat",), 1), desk == Desk(BOOK)
 
 
 class NothingChanges(Case):
@@ -181,12 +221,37 @@ class NothingChanges(Case):
                 lambda book: paper(book, FOLK, 9), lambda book: check(book, FOLK, 9, paper(book, FOLK, 9)),
                 lambda book: fulfils(book, FOLK, ("once", 9)), lambda book: least_lots(book, ("once", 501)),
                 lambda book: bars(book, ("days", 9, 501)), lambda book: levels(book, 9),
-                lambda book: spared(book, ("once", 501))]:
+                lambda book: spared(book, ("once", 501)), lambda book: alike(book, book.without(0)),
+                lambda book: alike(book, book), lambda book: parting(book, book.without(0)),
+                lambda book: never_needed(book), lambda book: signs_too(book, FOLK, 1),
+                lambda book: cost_too(book[0], 9), lambda book: clause_text(book[0]), lambda book: book_text(book),
+                lambda book: Desk(book).left(FOLK, 3), lambda book: tried(Desk(book), paid_and_told)]:
             told = call(one)
             self.assertTrue(told is None or isinstance(told, (tuple, int, str)))
             self.assertEqual(told, call(one))
             self.assertEqual(told, call(other))
         self.assertEqual([vars(one), vars(ALONE), vars(BOTH)], before)
+
+    def test_a_book_at_a_desk(self):
+        before = copy.deepcopy([vars(BOOK), vars(ALONE), vars(BOTH)])
+        one, other = Desk(BOOK), Desk(BOOK)
+        payment = (0, 0, 500)
+        one.pay(("ann",), payment)
+        with one.trial():
+            one.undo()
+        with self.assertRaises(BadRow):
+            one.pay(("ann",), payment)
+        # Desks of one book know nothing of one another.
+        self.assertEqual((one.row, other.row, payment), ((payment,), (), (0, 0, 500)))
+        self.assertEqual([one.left(("cat",), 0), other.left(("cat",), 0)], [0, 500])
+        self.assertEqual([vars(BOOK), vars(ALONE), vars(BOTH)], before)
+
+    def test_texts_that_are_read(self):
+        text = book_text(BOOK)
+        for _ in range(2):
+            self.assertEqual(read_book(text), BOOK)
+            self.assertEqual(read_clause(FOLK, clause_text(ALONE)), ALONE)
+        self.assertEqual(text, book_text(BOOK))
 
     def test_lists_that_are_judged(self):
         for thing in [
@@ -199,7 +264,11 @@ class NothingChanges(Case):
                 self.assertIs(call(), False)
             for call in [
                     lambda: check(BOOK, FOLK, 1, thing), lambda: fulfils(BOOK, FOLK, thing),
-                    lambda: least_lots(BOOK, thing), lambda: signs(BOOK, thing, 7), lambda: at_once(BOOK, [thing])]:
+                    lambda: least_lots(BOOK, thing), lambda: signs(BOOK, thing, 7), lambda: at_once(BOOK, [thing]),
+                    lambda: Desk(BOOK).pay(FOLK, thing), lambda: Desk(BOOK).pay(thing, (0, 0, 1)),
+                    lambda: Desk(BOOK).left(FOLK, thing), lambda: Desk(BOOK).undo(thing), lambda: read_book(thing),
+                    lambda: read_clause(FOLK, thing), lambda: read_clause(thing, ""), lambda: cost_too(ALONE, thing),
+                    lambda: signs_too(BOOK, thing, 0), lambda: signs_too(BOOK, FOLK, thing)]:
                 with self.assertRaises(SignError):
                     call()
             self.assertEqual(repr(thing), before)

@@ -8,7 +8,11 @@ import warnings
 
 PACKAGE = pathlib.Path(__file__).resolve().parent.parent / "whomaysign"
 LIBRARY = {"heapq", "math", "itertools"}
-DOUBLE = {"__init__", "__eq__", "__len__", "__getitem__", "__iter__"}
+DOUBLE = {"__init__", "__eq__", "__len__", "__getitem__", "__iter__", "__enter__", "__exit__"}
+PROPERTIES = {"row"}
+
+# A session of Python, or an example that is run, may have put its last value there as _.
+BUILTINS = set(dir(builtins)) - {"_"}
 
 INTERFACE = {
     "errors": {
@@ -24,6 +28,11 @@ INTERFACE = {
     "covers": {"least_cost": None, "cover": None, "is_cover": None, "spread": None},
     "reach": {"keeps": None, "makes": None, "at_once": None, "gathers": None, "paper": None, "check": None},
     "lots": {"fulfils": None, "least_lots": None, "bars": None, "levels": None, "spared": None},
+    "compare": {"alike": None, "parting": None, "never_needed": None},
+    "second": {"signs_too": None, "cost_too": None},
+    "desk": {
+        "Desk": ["__init__", "row", "__len__", "day", "left", "pay", "undo", "__eq__", "trial"], "tried": None},
+    "texts": {"clause_text": None, "read_clause": None, "book_text": None, "read_book": None},
 }
 
 
@@ -73,7 +82,8 @@ class Files(unittest.TestCase):
             for node in ast.walk(tree):
                 self.assertNotIsInstance(node, barred, path)
                 if isinstance(node, ast.FunctionDef):
-                    self.assertEqual(node.decorator_list, [], (path, node.name))
+                    decorators = ["property"] if node.name in PROPERTIES else []
+                    self.assertEqual([ast.unparse(sign) for sign in node.decorator_list], decorators, (path, node.name))
                     if node.name.startswith("__"):
                         self.assertIn(node.name, DOUBLE, path)
                 if isinstance(node, ast.Constant):
@@ -82,7 +92,7 @@ class Files(unittest.TestCase):
     def test_no_name_hides_an_import_or_a_class(self):
         for path, _, tree in trees():
             named = {name.name for node in tree.body if isinstance(node, ast.ImportFrom) for name in node.names}
-            named |= {node.name for node in tree.body if isinstance(node, ast.ClassDef)} | set(dir(builtins))
+            named |= {node.name for node in tree.body if isinstance(node, ast.ClassDef)} | BUILTINS
             for node in ast.walk(tree):
                 if isinstance(node, ast.arg):
                     self.assertNotIn(node.arg, named, path)

@@ -63,6 +63,14 @@ class Book:
         return _renamed(self, {name: name for name in self.people if name != person})
 
 
+def is_pair(people, thing):
+    """Whether any value is a pair of two different people."""
+    if not isinstance(thing, tuple) or len(thing) != 2:
+        return False
+    one, other = thing
+    return is_person(people, one) and is_person(people, other) and one != other
+
+
 def _need_clauses(people, thing):
     """The clauses as a tuple, so that later changes to a list have no effect."""
     if not isinstance(thing, (list, tuple)) or not 1 <= len(thing) <= MOST_CLAUSES:
@@ -79,20 +87,12 @@ def _need_clause(people, thing, number):
 
 def _need_lent(people, thing):
     """The ascending tuple of the pairs that are lent."""
-    if not isinstance(thing, (list, tuple)) or not all([_is_pair(people, pair) for pair in thing]):
+    if not isinstance(thing, (list, tuple)) or not all([is_pair(people, pair) for pair in thing]):
         raise BadBook("lent")
     pairs = sorted(set(thing))
     if len(pairs) != len(thing):
         raise BadBook("lent")
     return tuple(pairs)
-
-
-def _is_pair(people, thing):
-    """Whether any value is a pair of two different people."""
-    if not isinstance(thing, tuple) or len(thing) != 2:
-        return False
-    one, other = thing
-    return is_person(people, one) and is_person(people, other) and one != other
 
 
 def _need_two(people, one, other):

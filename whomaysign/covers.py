@@ -15,7 +15,7 @@ def need_days(thing):
 
 def least_cost(clause, days):
     """The least cost of a cover of so many days, or None if there is none."""
-    costs = _least_costs(clause, days)
+    costs = least_costs(clause, days)
     if costs is None:
         return None
     return costs[days]
@@ -23,7 +23,7 @@ def least_cost(clause, days):
 
 def cover(clause, days):
     """A cover of so many days with the least cost, or None if there is none."""
-    costs = _least_costs(clause, days)
+    costs = least_costs(clause, days)
     if costs is None:
         return None
     windows = []
@@ -52,14 +52,14 @@ def cover_cost(clause, windows):
 
 def spread(clause, days):
     """An amount for each day, that together keep all sums and reach the least cost, or None if there is none."""
-    costs = _least_costs(clause, days)
+    costs = least_costs(clause, days)
     if costs is None:
         return None
     # A cover with one window more covers the days of the window more, so over these no costs rise above its sum.
     return tuple([costs[day + 1] - costs[day] for day in range(days)])
 
 
-def _least_costs(clause, days):
+def least_costs(clause, days):
     """The least costs of covers of 0 days, of 1 day, and so on up to so many, or None if there is none of these."""
     need_days(days)
     if days > 0 and not clause.sums:

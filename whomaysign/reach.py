@@ -31,12 +31,21 @@ def makes(book, lot, row):
     return keeps(book, row) and all([payment[1] in numbers for payment in row])
 
 
-def most_at_once(clause):
-    """The greatest amount of one payment by a clause, None if there is no bound."""
-    bounds = [most for _, most in clause.sums]
+def room(clause, paid, day):
+    """The greatest amount of one payment on a day, None if there is no bound.
+
+    What was paid by the clause so far is told as days, none behind this one, and amounts.
+    """
+    bounds = [
+        most - sum([amount for earlier, amount in paid if earlier > day - days]) for days, most in clause.sums]
     if clause.cap is not None:
         bounds = bounds + [clause.cap]
     return min(bounds, default=None)
+
+
+def most_at_once(clause):
+    """The greatest amount of one payment by a clause, None if there is no bound."""
+    return room(clause, [], 0)
 
 
 def at_once(book, lot):
