@@ -138,6 +138,14 @@ class ReadClause(Case):
                     "\u0661", "\u00b9", "1\n", "\n1", "None", "True", "1:", ":1", "1:1"):
                 self.refuses(BadText, 1, read_clause, FOLK, form.format(number))
 
+    def test_signs_that_are_no_figures(self):
+        for sign in [chr(number) for number in range(300) if chr(number) not in "0123456789"]:
+            for number in (sign, "1" + sign, sign + "1", "1" + sign + "1"):
+                if number != "-":
+                    self.refuses(BadText, 1, read_clause, FOLK, f"slots ann cap {number} sums")
+                self.refuses(BadText, 1, read_clause, FOLK, f"slots ann cap - sums 1:{number}")
+                self.refuses(BadText, 1, read_clause, FOLK, f"slots ann cap - sums {number}:1")
+
     def test_days(self):
         for days in ("0", "8", "9", "10", "01", "1" * 1000, "-1", "+1", "a", "", "ann", "1.", "-"):
             self.refuses(BadText, 1, read_clause, FOLK, f"slots ann cap - sums {days}:5")
